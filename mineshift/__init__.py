@@ -1,0 +1,1 @@
+"""Shovels and trucks: a shift of a mine, minute by minute."""
