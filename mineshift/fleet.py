@@ -1,12 +1,14 @@
 """What a fleet is made of, and how all of it stands at one moment."""
 
-from mineshift.words import FREE, PARK, STOP_OF_TRUCK
+from mineshift.words import FREE, PARK, SHOVEL_WITHOUT_TRUCK, STOP_OF_TRUCK
 
 
 class Block:
     def __init__(self, number, kilograms, place):
         self.number = number
+        self.kilograms = kilograms
         self.left = kilograms
+        self.tipped = 0
         self.place = place
 
 
@@ -57,12 +59,14 @@ class Fleet:
     def __init__(self, n, carries, rule, rows):
         self.carries = carries
         self.rule = rule
+        self.rows = rows
         self.trucks = [Truck(k + 1) for k in range(n)]
         self.shovels = [Shovel(k + 1, loading) for k, loading in enumerate(rows[0])]
         self.places = [Place(k + 1, tipping) for k, tipping in enumerate(rows[1])]
         self.park = rows[2]
         self.onward = rows[3]
         self.back = rows[4]
+        self.told = []
         self.blocks = []
         self.stops = []
         self.book = []
@@ -89,6 +93,14 @@ def loads_left(fleet, shovel):
 
 def loads_tipped(fleet):
     return sum([place.loads for place in fleet.places])
+
+
+def kilograms_tipped(fleet):
+    return sum([place.kilograms for place in fleet.places])
+
+
+def minutes_without_truck(fleet):
+    return sum([shovel.counted[SHOVEL_WITHOUT_TRUCK] for shovel in fleet.shovels])
 
 
 def how_many(fleet, doings, where):

@@ -134,6 +134,7 @@ def tip_load(fleet, truck):
     place = fleet.places[truck.where - 1]
     place.loads += 1
     place.kilograms += truck.load.kilograms
+    truck.load.block.tipped += truck.load.kilograms
     truck.load = None
     truck.does = FREE
     truck.to_go = 0

@@ -1,6 +1,9 @@
 """The numbers by which the calls speak of things."""
 
 FLEET_CALL = 0
+# The calls that change a fleet, and those that play its shift again.
+TELLING_CALLS = (1, 2, 3)
+REPLAYING_CALLS = (14, 15, 16)
 
 PARK = 0
 
@@ -27,9 +30,11 @@ SHOVEL_NOTHING_LEFT = 3
 STOP_OF_TRUCK = 0
 
 LAST_MINUTE = 1440
+MOST_TRUCKS = 8
 MOST_BLOCKS = 20
 MOST_STOPS = 20
 LINES_AT_ONCE = 50
+NUMBERS_A_LINE = 6
 
 DONE = 0
 OUT_OF_RANGE = -1

@@ -2,9 +2,8 @@
 
 import unittest
 
-from mineshift.calls import Mine, answer_call
-from mineshift.forms import Reader, read_call
-from tests.tools import block, book, fleet, last, lines, minutes, play, run, shovel, stop_shovel, stop_truck, truck
+from tests.tools import (
+    block, book, fleet, last, lines, minutes, play, run, shovel, stop_shovel, stop_truck, truck, work)
 
 
 def only(found, does):
@@ -12,11 +11,7 @@ def only(found, does):
 
 
 def counts_of_shovel(s, *calls):
-    """The shovel's minutes, which none of these calls answers."""
-    mine = Mine()
-    for call in calls:
-        answer_call(mine, read_call(Reader(call)))
-    return mine.fleet.shovels[s - 1].counted
+    return last(*calls, work(s))[1:]
 
 
 # Three trucks that come to the one shovel in the order 3, 2, 1, a minute after another.

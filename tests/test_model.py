@@ -17,10 +17,11 @@ class AsTheModel(unittest.TestCase):
             for k, call in enumerate(calls):
                 self.assertEqual(found[k], model.ask(call), (seed, k, call))
                 kinds[call[0], min(found[k][0], 0)] = True
-        for call in range(9):
+        for call in range(18):
             self.assertIn((call, 0), kinds)
-            self.assertIn((call, -1), kinds)
-        for refusal in ((1, -2), (1, -3), (2, -2), (2, -5), (4, -2), (4, -8)):
+            if call not in (10, 11, 17):
+                self.assertIn((call, -1), kinds)
+        for refusal in ((1, -2), (1, -3), (2, -2), (2, -5), (4, -2), (4, -8), (9, -2), (12, -2), (13, -7), (16, -6)):
             self.assertIn(refusal, kinds)
 
 

@@ -46,6 +46,42 @@ def minutes(t):
     return [8, t]
 
 
+def work(s):
+    return [9, s]
+
+
+def balance():
+    return [10]
+
+
+def blocks():
+    return [11]
+
+
+def next_shovel(p):
+    return [12, p]
+
+
+def check(numbers):
+    return [13, len(numbers), *numbers]
+
+
+def other(rule, n):
+    return [14, rule, n]
+
+
+def fewest(most):
+    return [15, most]
+
+
+def ahead(n):
+    return [16, n]
+
+
+def now():
+    return [17]
+
+
 def split(flat):
     """The answers one by one; it fails if the counts don't fit."""
     found = []
@@ -88,4 +124,5 @@ def look(n, shovels, places):
     """Calls that show all that there is to see."""
     views = [truck(t + 1) for t in range(n)] + [minutes(t + 1) for t in range(n)]
     views += [shovel(s + 1) for s in range(shovels)] + [place(p + 1) for p in range(places)]
-    return views + [book(0), book(50)]
+    views += [work(s + 1) for s in range(shovels)] + [next_shovel(p) for p in range(places + 1)]
+    return views + [balance(), blocks(), now(), book(0), book(50)]
